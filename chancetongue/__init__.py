@@ -1,0 +1,1 @@
+"""Chancetongue: books of chances, asked anew behind each change."""
