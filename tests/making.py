@@ -50,3 +50,71 @@ def deep_expression(deep):
 
 def source_of(seed):
     return random.Random(seed)
+
+
+def mutations(source, items, pool):
+    """Items with one left out, twice, another, put in, exchanged: one of each, at some places."""
+    at, other = source.randrange(len(items)), source.randrange(len(items))
+    thing = source.choice(pool)
+    yield items[:at] + items[at + 1:]
+    yield items[:at] + [items[at]] + items[at:]
+    yield items[:at] + [thing] + items[at + 1:]
+    yield items[:at] + [thing] + items[at:]
+    yield items + [thing]
+    yield items[:at]
+    swapped = list(items)
+    swapped[at], swapped[other] = swapped[other], swapped[at]
+    yield swapped
+
+
+NEW_NAMES = ("p", "q", "r", "sum")
+
+
+def some_alts(source, names):
+    return tuple(
+        (some_expression(source, names, 1), some_expression(source, names, 2)) for k in range(source.randrange(1, 4))
+    )
+
+
+def some_block(source, known, within):
+    """A block that is let by where these names are known, and what is known behind it."""
+    block = []
+    for k in range(source.randrange(0, 5)):
+        kind = source.choice(("draw", "set", "set", "see", "if", "times"))
+        if kind == "draw":
+            block.append(("draw", source.choice(NEW_NAMES), some_alts(source, known)))
+        elif kind == "set":
+            block.append(("set", source.choice(NEW_NAMES), some_expression(source, known, 2)))
+        elif kind == "see":
+            block.append(("see", some_expression(source, known, 3)))
+        elif within == 3:
+            continue
+        elif kind == "if":
+            one, behind_one = some_block(source, known, within + 1)
+            other, behind_other = some_block(source, known, within + 1)
+            block.append(("if", some_expression(source, known, 2), one, other))
+            known = tuple(x for x in behind_one if x in behind_other)
+        else:
+            inner, known = some_block(source, known, within + 1)
+            block.append(("times", source.randrange(1, 4), inner))
+        if block[-1][0] in ("draw", "set"):
+            known = (*known, block[-1][1])
+    return tuple(block), known
+
+
+def some_book(source):
+    """A book that is let by."""
+    unknowns = ("a", "b", "c")[:source.randrange(0, 4)]
+    fields = ("f", "g", "h")[:source.randrange(0, 4)]
+    drawn = tuple((x, some_alts(source, unknowns[:k])) for k, x in enumerate(unknowns))
+    return (drawn, fields, some_block(source, unknowns + fields, 0)[0])
+
+
+def nested_book(deep):
+    """A book with so many ifs and times within one another, the innermost block empty."""
+    block = ()
+    for k in range(deep):
+        block = ((("times", k % 10, block)),) if k % 3 == 0 else (
+            (("if", num(k), block, ()),) if k % 3 == 1 else (("see", num(1)), ("if", num(k), (), block))
+        )
+    return ((), (), block)
