@@ -77,3 +77,8 @@ def value_of(expression, known):
         chosen = expression[3] if value_of(expression[1], known) == 0 else expression[2]
         return value_of(chosen, known)
     return joined(expression[1], value_of(expression[2], known), value_of(expression[3], known))
+
+
+def is_so(expression, known):
+    """Whether an expression is so: whether its value isn't 0."""
+    return value_of(expression, known) != 0

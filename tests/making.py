@@ -118,3 +118,105 @@ def nested_book(deep):
             (("if", num(k), block, ()),) if k % 3 == 1 else (("see", num(1)), ("if", num(k), (), block))
         )
     return ((), (), block)
+
+
+def few_weights(source, known):
+    """A weight of at most 15."""
+    kind = source.randrange(8)
+    if kind == 0:
+        return num(0)
+    if kind == 1 and known:
+        return op(source.choice("<="), name(source.choice(known)), num(source.randrange(4)))
+    if kind == 2 and known:
+        return ("if", name(source.choice(known)), num(source.randrange(5)), num(source.randrange(5)))
+    return num(source.randrange(1, 16))
+
+
+def few_values(source, known):
+    """A value, mostly a small one, so that ways meet again."""
+    kind = source.randrange(5)
+    if kind == 0 and known:
+        return op(source.choice(SIGNS), name(source.choice(known)), num(source.randrange(3)))
+    if kind == 1 and known:
+        return some_expression(source, known, 2)
+    return num(source.randrange(3))
+
+
+def few_alts(source, known):
+    return tuple((few_weights(source, known), few_values(source, known)) for k in range(source.randrange(1, 4)))
+
+
+def few_test(source, known):
+    """A test that is often so, and often isn't."""
+    if not known:
+        return num(source.randrange(3))
+    kind = source.randrange(4)
+    if kind == 0:
+        return name(source.choice(known))
+    if kind == 1:
+        return some_expression(source, known, 2)
+    return op(source.choice("<=|&"), name(source.choice(known)), some_expression(source, known, 0))
+
+
+def few_block(source, known, within):
+    """A block that is let by where these names are known, and what is known behind it."""
+    block = []
+    for k in range(source.randrange(1 - min(within, 1), 8 - 2 * within)):
+        kind = source.choice(("draw", "draw", "set", "set", "see", "if", "times"))
+        if kind == "draw":
+            x = source.choice(NEW_NAMES)
+            block.append(("draw", x, few_alts(source, known)))
+            known = tuple(dict.fromkeys((*known, x)))
+        elif kind == "set":
+            x = source.choice(NEW_NAMES)
+            block.append(("set", x, few_values(source, known)))
+            known = tuple(dict.fromkeys((*known, x)))
+        elif kind == "see":
+            block.append(("see", few_test(source, known)))
+        elif kind == "if" and within < 3:
+            one, behind_one = few_block(source, known, within + 1)
+            other, behind_other = few_block(source, known, within + 1)
+            block.append(("if", few_test(source, known), one, other))
+            known = tuple(x for x in behind_one if x in behind_other)
+        elif kind == "times" and within < 3:
+            inner, known = few_block(source, known, within + 1)
+            block.append(("times", source.randrange(1, 4), inner))
+    return tuple(block), known
+
+
+def bounds_of(block):
+    """Of a block: at most how many ways, how many draws on a way, rows of its flow."""
+    ways, draws, rows = 1, 0, 0
+    for statement in block:
+        if statement[0] == "draw":
+            inner = (len(statement[2]), 1, 1)
+        elif statement[0] == "if":
+            one, other = bounds_of(statement[2]), bounds_of(statement[3])
+            inner = (max(one[0], other[0]), max(one[1], other[1]), 1 + one[2] + other[2])
+        elif statement[0] == "times":
+            one = bounds_of(statement[2])
+            inner = (one[0] ** statement[1], one[1] * statement[1], one[2] * statement[1])
+        else:
+            inner = (1, 0, 1)
+        ways, draws, rows = ways * inner[0], draws + inner[1], rows + inner[2]
+    return ways, draws, rows
+
+
+def few_ways_book(source, most=300, rows=79):
+    """A book that is let by and within the document's bounds, an ask at a row of it, and one of the whole."""
+    while True:
+        unknowns = ("a", "b", "c")[:source.choice((0, 1, 1, 2, 2, 3))]
+        fields = ("f", "g", "h")[:source.choice((0, 1, 1, 2, 3))]
+        drawn = tuple((x, few_alts(source, unknowns[:k])) for k, x in enumerate(unknowns))
+        body, known = few_block(source, unknowns + fields, 0)
+        ways, draws, many = bounds_of(body)
+        if body and ways <= most and draws <= 6 and many <= rows:
+            return (drawn, fields, body), few_test(source, known), few_test(source, unknowns)
+
+
+def some_row(source, book):
+    return tuple(source.randrange(3) for x in book[1])
+
+
+def some_values(source, book):
+    return tuple(source.randrange(4) for x in book[0])
