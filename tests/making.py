@@ -120,15 +120,20 @@ def nested_book(deep):
     return ((), (), block)
 
 
+def late(source, known):
+    """One of the names known, mostly of those that were set last: they differ from way to way."""
+    return source.choice(known[-2:] if source.randrange(3) else known)
+
+
 def few_weights(source, known):
     """A weight of at most 15."""
     kind = source.randrange(8)
     if kind == 0:
         return num(0)
     if kind == 1 and known:
-        return op(source.choice("<="), name(source.choice(known)), num(source.randrange(4)))
+        return op(source.choice("<="), name(late(source, known)), num(source.randrange(4)))
     if kind == 2 and known:
-        return ("if", name(source.choice(known)), num(source.randrange(5)), num(source.randrange(5)))
+        return ("if", name(late(source, known)), num(source.randrange(5)), num(source.randrange(5)))
     return num(source.randrange(1, 16))
 
 
@@ -136,14 +141,15 @@ def few_values(source, known):
     """A value, mostly a small one, so that ways meet again."""
     kind = source.randrange(5)
     if kind == 0 and known:
-        return op(source.choice(SIGNS), name(source.choice(known)), num(source.randrange(3)))
+        return op(source.choice(SIGNS), name(late(source, known)), num(source.randrange(3)))
     if kind == 1 and known:
         return some_expression(source, known, 2)
     return num(source.randrange(3))
 
 
 def few_alts(source, known):
-    return tuple((few_weights(source, known), few_values(source, known)) for k in range(source.randrange(1, 4)))
+    many = source.choice((1, 2, 2, 2, 3, 3, 4))
+    return tuple((few_weights(source, known), few_values(source, known)) for k in range(many))
 
 
 def few_test(source, known):
@@ -152,25 +158,22 @@ def few_test(source, known):
         return num(source.randrange(3))
     kind = source.randrange(4)
     if kind == 0:
-        return name(source.choice(known))
+        return name(late(source, known))
     if kind == 1:
         return some_expression(source, known, 2)
-    return op(source.choice("<=|&"), name(source.choice(known)), some_expression(source, known, 0))
+    one, other = name(late(source, known)), num(source.randrange(3))
+    return source.choice((op("=", one, other), op("<", one, other), op("<", other, one), op("|", one, other)))
 
 
 def few_block(source, known, within):
     """A block that is let by where these names are known, and what is known behind it."""
     block = []
     for k in range(source.randrange(1 - min(within, 1), 8 - 2 * within)):
-        kind = source.choice(("draw", "draw", "set", "set", "see", "if", "times"))
-        if kind == "draw":
+        kind = source.choice(("draw", "draw", "draw", "set", "see", "if", "times"))
+        if kind in ("draw", "set"):
             x = source.choice(NEW_NAMES)
-            block.append(("draw", x, few_alts(source, known)))
-            known = tuple(dict.fromkeys((*known, x)))
-        elif kind == "set":
-            x = source.choice(NEW_NAMES)
-            block.append(("set", x, few_values(source, known)))
-            known = tuple(dict.fromkeys((*known, x)))
+            block.append((kind, x, few_alts(source, known) if kind == "draw" else few_values(source, known)))
+            known = (*[y for y in known if y != x], x)
         elif kind == "see":
             block.append(("see", few_test(source, known)))
         elif kind == "if" and within < 3:

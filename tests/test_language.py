@@ -24,6 +24,15 @@ BARRED = re.compile(
     r"\b(type|typing|typing_extensions|enum|Enum|IntEnum|StrEnum|Flag|IntFlag|Generic|Protocol|ABC|ABCMeta|namedtuple"
     r"|NamedTuple|TypedDict|TYPE_CHECKING|abstractmethod)\b|dataclass|overload|contextmanager"
 )
+BUILTIN_METHODS = set(
+    "append clear copy count endswith extend find get index insert isalnum isalpha isdigit islower isspace isupper items "
+    "join keys ljust lower lstrip partition pop remove replace reverse rfind rjust rpartition rsplit rstrip setdefault "
+    "split splitlines startswith strip update upper values zfill bit_length".split()
+)
+NO_ATTRIBUTES = set(
+    "items keys values pop update append clear extend insert remove reverse setdefault sort args encode decode hex fromhex "
+    "format".split()
+)
 STATEMENTS = (
     ast.Assign, ast.AugAssign, ast.AnnAssign, ast.If, ast.While, ast.For, ast.Return, ast.Break, ast.Continue, ast.Pass,
     ast.Raise, ast.Assert, ast.Delete, ast.Nonlocal, ast.Match, ast.With, ast.Try, ast.Expr, ast.FunctionDef,
@@ -159,6 +168,58 @@ class Language(unittest.TestCase):
             self.assertNotIn(ast.unparse(node.type), ("Exception", "TypeError"), place)
         for place, node in self.nodes(ast.Raise):
             self.assertTrue(node.exc is None or isinstance(node.exc, ast.Call), place)
+
+    def test_no_name_is_a_method_here_and_an_attribute_there(self):
+        methods, assigned, read = set(), set(), set()
+        for place, node in self.nodes(ast.ClassDef):
+            own = [part.name for part in node.body if isinstance(part, ast.FunctionDef)]
+            self.assertEqual(len(own), len(set(own)), place)
+            methods.update(own)
+        for place, node in self.nodes(ast.Attribute):
+            (read if isinstance(node.ctx, ast.Load) else assigned).add(node.attr)
+        self.assertEqual(methods & assigned, set())
+        self.assertEqual(read - methods - assigned - BUILTIN_METHODS, set())
+        self.assertEqual(assigned & NO_ATTRIBUTES, set())
+
+    def test_lengths(self):
+        for place, node in self.nodes(ast.FunctionDef):
+            if node.name == "__len__":
+                self.assertTrue(ast.unparse(node.body[-1]).startswith("return len("), place)
+            if node.name == "__init__":
+                self.assertFalse([part for part in ast.walk(node) if isinstance(part, ast.Return)], place)
+
+    def test_no_generators_and_no_stars_over_calls(self):
+        for place, node in self.nodes(ast.GeneratorExp, ast.Yield, ast.YieldFrom):
+            self.fail(place)
+        for place, node in self.nodes(ast.Starred):
+            self.assertNotIsInstance(node.value, ast.Call, place)
+
+    def test_sets_stand_where_they_may(self):
+        for file, text, tree in self.each():
+            kept = set()
+            for node in ast.walk(tree):
+                if isinstance(node, ast.Call) and ast.unparse(node.func) in ("sorted", "len"):
+                    kept.update(id(part) for part in node.args)
+                if isinstance(node, ast.Compare):
+                    kept.update(id(part) for part in [node.left, *node.comparators])
+            for node in ast.walk(tree):
+                made = isinstance(node, ast.Call) and ast.unparse(node.func) == "set"
+                if made or isinstance(node, (ast.Set, ast.SetComp)):
+                    self.assertIn(id(node), kept, f"{file}:{node.lineno}")
+
+    def test_views_are_iterated_on_the_spot(self):
+        wrappers = ("list", "tuple", "dict", "sorted", "sum", "any", "all", "enumerate", "zip", "min", "max")
+        for file, text, tree in self.each():
+            kept = set()
+            for node in ast.walk(tree):
+                if isinstance(node, (ast.For, ast.comprehension)):
+                    kept.add(id(node.iter))
+                if isinstance(node, ast.Call) and ast.unparse(node.func) in wrappers:
+                    kept.update(id(part) for part in node.args)
+            for node in ast.walk(tree):
+                called = ast.unparse(node.func) if isinstance(node, ast.Call) else ""
+                if called in ("zip", "enumerate", "reversed", "range") or called.endswith((".items", ".keys", ".values")):
+                    self.assertIn(id(node), kept, f"{file}:{node.lineno}")
 
     def test_no_tabs_and_no_other_escapes(self):
         for path in FILES:
