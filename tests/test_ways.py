@@ -204,6 +204,20 @@ class WaysOfRow(unittest.TestCase):
         book = book_of("fields", four, four, five, five, five)
         self.assertEqual(len(ways_of_row(book, (), ())), 2000)
 
+    def test_three_hundred_ways(self):
+        four, three = "1 : 0 , 1 : 1 , 1 : 2 , 1 : 3", "1 : 0 , 1 : 1 , 1 : 2"
+        book = book_of(
+            "fields", f"draw x from {four}", f"draw y from {three}", f"draw u from {four}", "if u", f"draw v from {three}",
+            "else", f"draw v from {four}", f"draw w from {four}", "end",
+        )
+        told = ways_of_row(book, (), (), most=300)
+        self.assertEqual(len(told), 300)
+        self.assertEqual(told[0], ((1, 768), {"x": 0, "y": 0, "u": 0, "v": 0, "w": 0}))
+        self.assertEqual(told[-1], ((1, 144), {"x": 3, "y": 2, "u": 3, "v": 2}))
+        with self.assertRaises(TooMany):
+            ways_of_row(book, (), (), most=299)
+        self.assertEqual(ways_of_all(book, [()], name("v"), at=0, most=300), ((1, 1), (11, 16)))
+
     def test_bounds(self):
         four = "draw x from 15 : 1 , 15 : 2 , 15 : 3 , 15 : 4"
         book = book_of("fields", four, four, four, four)
