@@ -6,6 +6,14 @@ from chancetongue.expressions import names_of
 ALWAYS = ("num", 1)
 
 
+def all_so(expressions):
+    """An expression that is so where all of these are so."""
+    found = ALWAYS
+    for expression in expressions:
+        found = ("op", "&", found, expression)
+    return found
+
+
 def unrolled(block):
     """A block's statements in order, a times' block as often as it says; ifs stay as they are."""
     found = []

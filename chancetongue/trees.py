@@ -53,6 +53,17 @@ class Tree:
             height += 1
         return height
 
+    def leaf_at(self, n):
+        """A leaf, or ones where it is gone."""
+        return self.own(self.part(0, n))
+
+    def twin(self):
+        """Another tree of the same leaves and nodes; what is done to one changes nothing in the other."""
+        other = Tree(self.key_list)
+        other.leaves = list(self.leaves)
+        other.made = {place: self.made[place] for place in self.made}
+        return other
+
     def own(self, part):
         """A leaf or a node as a dict of its own."""
         return {key: part[key] for key in self.key_list}
