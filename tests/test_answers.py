@@ -9,29 +9,16 @@ from chancetongue.cases import Case
 from chancetongue.errors import NoAsk, NoDatum, NoRow, NoWays
 from chancetongue.flows import ALWAYS
 from chancetongue.ways import ways_of_all
+from tests.checking import Refusing, case_of, some_case
 from tests.making import name, num, source_of
 from tests.slow import as_fraction, as_share
-from tests.slowcase import SlowCase, deed_by_method, slow_answer, slow_mixture, slow_spread, state_of
-from tests.somebooks import BAG, BARE, EMPTY, PICK, ask_at, ex, good_deed, small_book
+from tests.slowcase import slow_answer, slow_mixture, slow_spread, state_of
+from tests.somebooks import BAG, BARE, EMPTY, PICK, ask_at, ex, small_book
 
 LOST = ex("( + 1 zz )")
 
 
-def case_of(book, *deeds):
-    case = Case(book)
-    case.several(deeds)
-    return case
-
-
-class AnswerTest(unittest.TestCase):
-    def assert_refused(self, wanted, call, *things, **more):
-        with self.assertRaises(type(wanted)) as caught:
-            call(*things, **more)
-        self.assertIs(type(caught.exception), type(wanted))
-        self.assertEqual(vars(caught.exception), vars(wanted))
-
-
-class Answers(AnswerTest):
+class Answers(Refusing):
     def assert_answers(self, case, *told):
         for text, at, given, share in told:
             with self.subTest(ask=text, at=at, given=given):
@@ -184,7 +171,7 @@ class Answers(AnswerTest):
             answer_without(case, ("row", 0), num(1), None)
 
 
-class Spreads(AnswerTest):
+class Spreads(Refusing):
     def assert_spread(self, case, text, told, **more):
         found = spread_of(case, ex(text), **more)
         self.assertEqual(list(found.items()), told)
@@ -231,7 +218,7 @@ class Spreads(AnswerTest):
         self.assertEqual(mixture_of(case, name("bag")), [((0,), (1, 4), (0, 1)), ((1,), (3, 4), (1, 1))])
 
 
-class Mixtures(AnswerTest):
+class Mixtures(Refusing):
     def test_of_the_whole(self):
         self.assertEqual(mixture_of(Case(BAG), name("bag")), [((0,), (1, 3), (0, 1)), ((1,), (2, 3), (1, 1))])
         case = case_of(BAG, ("put", (1,)), ("put", (0,)))
@@ -253,7 +240,7 @@ class Mixtures(AnswerTest):
         self.assertEqual(mixture_of(case_of(BARE, ("put", ())), name("x"), at=0), [((), (1, 1), (3, 4))])
 
 
-class Without(AnswerTest):
+class Without(Refusing):
     def setUp(self):
         self.case = case_of(
             BAG, ("put", (1,)), ("put", (0,)), ("set", ex("( | bag kind )"), 0), ("set", ex("( < bag 5 )"), None),
@@ -366,11 +353,7 @@ class SomeCases(unittest.TestCase):
         for seed in range(250):
             source = source_of(seed)
             book = small_book(source)
-            case, slow = Case(book), SlowCase(book)
-            for k in range(source.randrange(6)):
-                deed = good_deed(source, book, slow.now)
-                slow.do(deed)
-                deed_by_method(case, deed)
+            case = some_case(source, book, source.randrange(6))
             for at in (None, *case.rows()):
                 ask, given = ask_at(source, book, at), ask_at(source, book, at)
                 for one in (ALWAYS, given):
@@ -383,11 +366,7 @@ class SomeCases(unittest.TestCase):
         for seed in range(250):
             source = source_of(seed)
             book = small_book(source, most=8)
-            case, slow = Case(book), SlowCase(book)
-            for k in range(source.randrange(5)):
-                deed = good_deed(source, book, slow.now)
-                slow.do(deed)
-                deed_by_method(case, deed)
+            case = some_case(source, book, source.randrange(5))
             numbers = list(case.rows())
             places = {number: place for place, number in enumerate(numbers)}
             conditions = [(E, None if at is None else places[at]) for E, at in case.conditions().values()]

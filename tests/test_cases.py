@@ -6,6 +6,7 @@ import unittest
 
 from chancetongue.cases import Case
 from chancetongue.errors import Broken, NoAsk, NoCondition, NoRow, NotSuch
+from tests.checking import Refusing
 from tests.making import name, num, op, some_row, source_of
 from tests.slowcase import Refused, SlowCase, deed_by_method, state_of
 from tests.somebooks import BAG, BARE, EMPTY, PICK, bad_deed, book_of, ex, good_deed, small_book, within_bounds
@@ -14,15 +15,9 @@ LOST = op("+", num(1), op("*", num(2), name("zz")))
 REFUSALS = {"NoRow": NoRow, "NoCondition": NoCondition, "NotSuch": NotSuch, "NoAsk": NoAsk}
 
 
-class CaseTest(unittest.TestCase):
-    def assert_refused(self, wanted, call, *things, **more):
-        """Refused with an error of just this kind and these fields; and what is told of the case stays."""
-        with self.assertRaises(type(wanted)) as caught:
-            call(*things, **more)
-        self.assertIs(type(caught.exception), type(wanted))
-        self.assertEqual(vars(caught.exception), vars(wanted))
-
+class CaseTest(Refusing):
     def assert_stays(self, case, wanted, call, *things, **more):
+        """Refused, and what is told of the case stays."""
         ahead = (state_of(case), case.nodes(), {n: case.leaf(n) for n in case.rows()})
         self.assert_refused(wanted, call, *things, **more)
         self.assertEqual((state_of(case), case.nodes(), {n: case.leaf(n) for n in case.rows()}), ahead)

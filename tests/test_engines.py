@@ -6,10 +6,10 @@ import unittest.mock
 
 from chancetongue import engines
 from chancetongue.answers import answer_of
-from chancetongue.cases import Case
 from chancetongue.engines import by_engine
 from chancetongue.errors import NoAsk, NoEngine, NoRow, NoWays, TooMany
 from chancetongue.ways import ways_of_all
+from tests.checking import Refusing, case_of
 from tests.making import few_ways_book, name, num, some_row, source_of
 from tests.slowcase import slow_answer
 from tests.somebooks import BAG, BARE, EMPTY, PICK, ask_at, book_of, ex, place_of
@@ -24,16 +24,9 @@ ROUNDS = book_of(
 )
 
 
-class Engines(unittest.TestCase):
-    def assert_refused(self, wanted, *things, **more):
-        with self.assertRaises(type(wanted)) as caught:
-            by_engine(*things, **more)
-        self.assertIs(type(caught.exception), type(wanted))
-        self.assertEqual(vars(caught.exception), vars(wanted))
-
+class Engines(Refusing):
     def assert_share(self, book, rows, ask, told, conditions=(), at=None):
-        case = Case(book)
-        case.several([*[("put", row) for row in rows], *[("set", E, place) for E, place in conditions]])
+        case = case_of(book, *[("put", row) for row in rows], *[("set", E, place) for E, place in conditions])
         if told is None:
             with self.assertRaises(NoWays):
                 answer_of(case, ask, at=at)
@@ -42,7 +35,7 @@ class Engines(unittest.TestCase):
         for word in WORDS:
             with self.subTest(word=word):
                 if told is None:
-                    self.assert_refused(NoWays(), word, book, rows, ask, conditions=conditions, at=at)
+                    self.assert_refused(NoWays(), by_engine, word, book, rows, ask, conditions=conditions, at=at)
                 else:
                     self.assertEqual(by_engine(word, book, rows, ask, conditions=conditions, at=at), told)
 
@@ -128,19 +121,19 @@ class Engines(unittest.TestCase):
     def test_refused_in_order(self):
         rows = ((1,), (0,))
         for word in ("", "way", "Ways", "ways ", "table", "engine", "ask", "ways\n"):
-            self.assert_refused(NoEngine(word), word, BAG, rows, LOST, at=7)
-            self.assert_refused(NoEngine(word), word, EMPTY, (), num(1))
-            self.assert_refused(NoEngine(word), word, BAG, rows, num(1))
+            self.assert_refused(NoEngine(word), by_engine, word, BAG, rows, LOST, at=7)
+            self.assert_refused(NoEngine(word), by_engine, word, EMPTY, (), num(1))
+            self.assert_refused(NoEngine(word), by_engine, word, BAG, rows, num(1))
         for word in WORDS:
             for at in (2, -1, -2, True, False):
-                self.assert_refused(NoRow(at), word, BAG, rows, LOST, at=at)
-            self.assert_refused(NoRow(0), word, EMPTY, (), num(1), at=0)
-            self.assert_refused(NoAsk(2), word, BAG, rows, LOST, at=1)
-            self.assert_refused(NoAsk(2), word, BAG, rows, LOST)
-            self.assert_refused(NoAsk(0), word, BAG, rows, name("kind"))
-            self.assert_refused(NoAsk(2), word, EMPTY, rows, LOST)
-            self.assert_refused(NoAsk(2), word, BAG, rows, LOST, conditions=((num(0), None),))
-            self.assert_refused(NoWays(), word, BAG, rows, name("bag"), conditions=((num(0), None),))
+                self.assert_refused(NoRow(at), by_engine, word, BAG, rows, LOST, at=at)
+            self.assert_refused(NoRow(0), by_engine, word, EMPTY, (), num(1), at=0)
+            self.assert_refused(NoAsk(2), by_engine, word, BAG, rows, LOST, at=1)
+            self.assert_refused(NoAsk(2), by_engine, word, BAG, rows, LOST)
+            self.assert_refused(NoAsk(0), by_engine, word, BAG, rows, name("kind"))
+            self.assert_refused(NoAsk(2), by_engine, word, EMPTY, rows, LOST)
+            self.assert_refused(NoAsk(2), by_engine, word, BAG, rows, LOST, conditions=((num(0), None),))
+            self.assert_refused(NoWays(), by_engine, word, BAG, rows, name("bag"), conditions=((num(0), None),))
 
     def test_each_word_reckons_in_its_own_way(self):
         reckoners = {"ways": "ended_ways", "tables": "share_along", "worths": "worths_of", "machine": "run_code"}

@@ -1,14 +1,17 @@
-"""Point 3, of cases: behind any history all is as with a new case of the same data, and as the ways of the whole tell."""
+"""Point 3: behind any history all is as with a new case of the same data, and all that tells an answer agrees."""
 
 import unittest
 
 from chancetongue.answers import answer_of, mean_of, mixture_of, spread_of
 from chancetongue.cases import Case
+from chancetongue.cores import core_holds, core_of
 from chancetongue.engines import by_engine
 from chancetongue.errors import Broken, NoAsk, NoCondition, NoRow, NotSuch, NoWays
 from chancetongue.flows import ALWAYS
 from chancetongue.shares import ONE, product_of, quotient_of, share_of, sum_of
+from chancetongue.splits import split_holds, split_of
 from chancetongue.ways import ways_of_all
+from tests.checking import product_of_split
 from tests.making import source_of
 from tests.slowcase import deed_by_method, state_of
 from tests.somebooks import ask_at, bad_deed, good_deed, small_book, within_bounds
@@ -89,6 +92,18 @@ class Histories(unittest.TestCase):
             so = sum_of(so, share) if value else so
             mean = sum_of(mean, product_of(share_of(value), share))
         self.assertEqual((whole, so, mean), (ONE, told, mean_of(case, ask, at=at)))
+        split = split_of(case, ask, at=at)
+        self.assertEqual((product_of_split(split), split_holds(case, ask, split, at=at)), (told, True))
+
+    def assert_one_of_two(self, case):
+        """There is an answer to each ask, or a core, just one of the two; told is whether there is a core."""
+        told = core_of(case)
+        for at in (None, *case.rows()):
+            for call in (answer_of, spread_of, mean_of, mixture_of, split_of):
+                self.assertEqual(told_or_none(call, case, ALWAYS, at=at) is None, told is not None)
+        if told is not None:
+            self.assertIs(core_holds(case, *told), True)
+        return told is not None
 
     def do_something(self, source, counted):
         case, now = counted.case, counted.now()
@@ -111,7 +126,7 @@ class Histories(unittest.TestCase):
             deed_by_method(case, good_deed(source, case.book(), now))
 
     def test_many(self):
-        answered = asked = 0
+        answered = asked = cores = 0
         for seed in range(60):
             source = source_of(seed)
             counted = Counted(small_book(source, most=6))
@@ -119,8 +134,10 @@ class Histories(unittest.TestCase):
                 self.do_something(source, counted)
                 answered += self.assert_as_anew(source, counted.case)
                 asked += 1 + len(counted.case)
+                cores += self.assert_one_of_two(counted.case)
         self.assertGreater(answered, 800)
         self.assertGreater(asked, answered + 200)
+        self.assertGreater(cores, 100)
 
 
 if __name__ == "__main__":

@@ -8,6 +8,7 @@ from chancetongue.cases import Case
 from chancetongue.errors import Broken, NoAsk, NoRow, NotSuch
 from chancetongue.flows import ALWAYS
 from chancetongue.watches import Watched
+from tests.checking import Refusing
 from tests.making import name, num, source_of
 from tests.slowcase import SlowCase, deed_by_method, slow_answer, state_of
 from tests.somebooks import BAG, EMPTY, PICK, ask_at, ex, good_deed, place_of, small_book, within_bounds
@@ -16,13 +17,7 @@ LOST = ex("( + 1 zz )")
 BAG_NAME, KIND = name("bag"), name("kind")
 
 
-class Watches(unittest.TestCase):
-    def assert_refused(self, wanted, call, *things, **more):
-        with self.assertRaises(type(wanted)) as caught:
-            call(*things, **more)
-        self.assertIs(type(caught.exception), type(wanted))
-        self.assertEqual(vars(caught.exception), vars(wanted))
-
+class Watches(Refusing):
     def test_a_watched_is_a_case(self):
         case, other = Watched(BAG), Case(BAG)
         self.assertIsInstance(case, Case)
