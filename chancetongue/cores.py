@@ -88,11 +88,10 @@ def core_holds(case, some, paper):
     if not are_data(standing, some):
         return False
     bars = bars_of(standing, some)
-    if not is_all_barred(standing, bars):
-        return False
     for datum in some:
         if is_all_barred(standing, bars_without(standing, bars, without_datum(standing, some, datum), datum)):
             return False
+    # Where there is a paper, all values of the prior are barred, so that no way is left.
     return is_paper(standing, bars, paper)
 
 

@@ -3,8 +3,11 @@
 import copy
 import inspect
 import unittest
+import unittest.mock
 
+from chancetongue import cases
 from chancetongue.cases import Case
+from chancetongue.deeds import done_in_order
 from chancetongue.errors import Broken, NoAsk, NoCondition, NoRow, NotSuch
 from tests.checking import Refusing
 from tests.making import name, num, op, some_row, source_of
@@ -572,6 +575,25 @@ class Several(CaseTest):
             self.assert_refused(Broken(0), case.several, [("put", thing)])
             self.assert_refused(Broken(1), case.several, [("put", (1,)), ("change", 0, thing)])
             self.assertEqual(len(case), 0)
+
+    def test_a_case_is_not_open_while_several_are_done(self):
+        case, told = Case(BAG), []
+
+        def watching(standing, deeds):
+            told.append(case.is_open())
+            return done_in_order(standing, deeds)
+
+        with unittest.mock.patch.object(cases, "done_in_order", watching):
+            case.several([("put", (1,))])
+            self.assert_refused(Broken(0), case.several, [("put", ())])
+        self.assertEqual((told, case.is_open()), ([False, False], True))
+
+    def test_what_is_no_refusal_leaves_the_case_open_too(self):
+        case = Case(BAG)
+        with unittest.mock.patch.object(cases, "done_in_order", side_effect=KeyError):
+            with self.assertRaises(KeyError):
+                case.several([("put", (1,))])
+        self.assertEqual((case.is_open(), case.log(), case.rows()), (True, [("begin", 1), ("end", 0)], {}))
 
     def test_behind_a_refusal_all_goes_on(self):
         case = Case(BAG)
